@@ -1,0 +1,1 @@
+"""Rooms of a kind or better, each night, with the fewest moves."""

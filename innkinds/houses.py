@@ -18,7 +18,8 @@ def room_count(counts):
 
 def first_room(counts, kind):
     """How many rooms are of lesser kinds: the number of the first room of a kind, if it has one."""
-    return sum(counts[:kind])
+    # An index below 0 would count from the best kind down: no kind is less than kind 0.
+    return sum(counts[:max(0, kind)])
 
 
 def kind_of(counts, room):

@@ -38,14 +38,19 @@ def rooms_on(counts, closings, night):
     return rooms
 
 
+def lacking(counts, rooms, wants, kind):
+    """How many more want a kind or better than there are rooms of it or better (below 0: spare)."""
+    # The better a room is the greater is its number, so the rooms from here on will do.
+    start = first_room(counts, kind)
+    good = [room for room in rooms if room >= start]
+    wanted = [want for want in wants.values() if want >= kind]
+    return len(wanted) - len(good)
+
+
 def short_kind(counts, rooms, wants):
     """The least kind with more wants than rooms of it or better, or None."""
     for kind in range(len(counts)):
-        # The better a room is the greater is its number, so the rooms from here on will do.
-        start = first_room(counts, kind)
-        good = [room for room in rooms if room >= start]
-        wanted = [want for want in wants.values() if want >= kind]
-        if len(wanted) > len(good):
+        if lacking(counts, rooms, wants, kind) > 0:
             return kind
     return None
 
